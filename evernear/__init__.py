@@ -1,0 +1,1 @@
+"""Evernear: helpers who answer calls for ever."""

@@ -5,12 +5,15 @@ from evernear.towns import in_reach, ways
 
 def stands_of(town, helpers):
     """Return the ascending list of all stands of so many helpers."""
-    return _all_stands(town[0], helpers)
+    found = [()]
+    for _ in range(helpers):
+        found = [(*stand, place) for stand in found for place in range(max(stand, default=0), town[0])]
+    return found
 
 
 def move_length(town, first, second, *, reach=60):
     """Return the length of the move between two stands, None if there is no pairing."""
-    return _pairing_length(ways(town), first, second, reach)
+    return moves_from(ways(town), first, reach).get(second)
 
 
 def answers(town, stand, call, *, rule, reach):
@@ -44,9 +47,40 @@ def answer_lengths(town, stands, calls, rule, reach):
 
 def answers_by(table, stand, call, rule, reach):
     """Return the answers by the table of all ways, so that it need not be made for each call."""
+    return answers_to_each(table, stand, [call], rule, reach)[call]
+
+
+def answers_to_each(table, stand, calls, rule, reach):
+    """Return a dict with the answers of the stand to each of the calls."""
     if rule == "one":
-        return _answers_of_one(table, stand, call, reach)
-    return _answers_of_all(table, stand, call, reach)
+        return {call: _answers_of_one(table, stand, call, reach) for call in calls}
+    moves = sorted(moves_from(table, stand, reach).items())
+    return {call: [move for move in moves if call in move[0]] for call in calls}
+
+
+def answer_table(town, helpers, calls, rule, reach):
+    """Return a dict with the answers of each stand of so many helpers to each of the calls, stands ascending."""
+    table = ways(town)
+    return {stand: answers_to_each(table, stand, calls, rule, reach) for stand in stands_of(town, helpers)}
+
+
+def moves_from(table, stand, reach):
+    """Return a dict with the length of the move to each stand to which there is one."""
+    moves = {(): 0}
+    for place in stand:
+        moves = _with_one_more(table[place], moves, reach)
+    return moves
+
+
+def _with_one_more(steps, moves, reach):
+    """Return the moves with one helper more, who has these ways to all places."""
+    found = {}
+    for stand, length in moves.items():
+        for place, step in enumerate(steps):
+            if in_reach(step, reach):
+                other = tuple(sorted((*stand, place)))
+                found[other] = min(length + step, found.get(other, length + step))
+    return found
 
 
 def _answers_of_one(table, stand, call, reach):
@@ -59,33 +93,3 @@ def _answers_of_one(table, stand, call, reach):
 def _with_one_gone(stand, place, call):
     at = stand.index(place)
     return tuple(sorted(stand[:at] + (call,) + stand[at + 1:]))
-
-
-def _answers_of_all(table, stand, call, reach):
-    found = []
-    for other in _all_stands(len(table), len(stand)):
-        length = _pairing_length(table, stand, other, reach) if call in other else None
-        if length is not None:
-            found.append((other, length))
-    return found
-
-
-def _all_stands(places, helpers):
-    found = [()]
-    for _ in range(helpers):
-        found = [(*stand, place) for stand in found for place in range(max(stand, default=0), places)]
-    return found
-
-
-def _pairing_length(table, first, second, reach):
-    if not first:
-        return 0
-    best = None
-    for at, place in enumerate(second):
-        length = table[first[0]][place]
-        if not in_reach(length, reach):
-            continue
-        rest = _pairing_length(table, first[1:], second[:at] + second[at + 1:], reach)
-        if rest is not None and (best is None or length + rest < best):
-            best = length + rest
-    return best

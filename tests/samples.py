@@ -1,6 +1,7 @@
 """Towns for the tests, and the document's words worked out in the plainest way, to compare with."""
 
 from itertools import combinations, combinations_with_replacement, permutations, product
+from random import Random
 
 TOWN = (4, [(0, 1, 2), (0, 2, 9), (1, 2, 3), (2, 3, 1)])
 LINE = (4, [(0, 1, 1), (1, 2, 1), (2, 3, 1)])
@@ -34,8 +35,15 @@ def plain_way(town, first, second, seen=()):
     return min(found, default=None)
 
 
+WAYS = {}
+
+
 def plain_ways(town):
-    return {(a, b): plain_way(town, a, b) for a in range(town[0]) for b in range(town[0])}
+    """All ways by their two places; kept, as many tests ask for them."""
+    key = repr(town)
+    if key not in WAYS:
+        WAYS[key] = {(a, b): plain_way(town, a, b) for a in range(town[0]) for b in range(town[0])}
+    return WAYS[key]
 
 
 def plain_stands(town, helpers):
@@ -68,3 +76,60 @@ def plain_answers(town, between, stand, call, rule, reach):
             if call in behind and length is not None:
                 found[behind] = length
     return sorted(found.items())
+
+
+REPLIES = {}
+
+
+def plain_replies(town, helpers, rule, reach):
+    """The answers of each stand of so many helpers to a call from each place; kept, as many tests ask for them."""
+    key = repr((town, helpers, rule, reach))
+    if key not in REPLIES:
+        between = plain_ways(town)
+        REPLIES[key] = {
+            (stand, call): plain_answers(town, between, stand, call, rule, reach)
+            for stand in plain_stands(town, helpers) for call in range(town[0])
+        }
+    return REPLIES[key]
+
+
+def plain_ranks(town, helpers, rule, reach, calls):
+    """For each stand the least number of calls that it cannot answer whatever they are, None if there is none."""
+    replies = plain_replies(town, helpers, rule, reach)
+    found = {stand: None for stand in plain_stands(town, helpers)}
+    able = set(found)
+    for many in range(1, len(found) + 2):
+        now = {
+            stand for stand in able
+            if all(any(answer in able for answer, _ in replies[stand, call]) for call in calls)
+        }
+        for stand in able - now:
+            found[stand] = many
+        able = now
+    return found
+
+
+def plain_best(replies, ranks, stand, call):
+    """The best answer: safe ones ahead of others, then the greatest rank, then the shortest, then the first."""
+    found = []
+    for answer, length in replies[stand, call]:
+        rank = ranks[answer]
+        found.append((0 if rank is None else 1, 0 if rank is None else -rank, length, answer))
+    if not found:
+        return None
+    best = sorted(found)[0]
+    return best[3], best[2]
+
+
+def parts_of(values):
+    """All lists of some of the values, at least one, in their order."""
+    return [list(part) for many in range(1, len(values) + 1) for part in combinations(values, many)]
+
+
+def spread_town(seed, places, roads, lengths=range(1, 10)):
+    """A town of one piece that looks like any other one; the same one for the same numbers."""
+    rng = Random(seed)
+    pairs = {(rng.randrange(place), place) for place in range(1, places)}
+    rest = [pair for pair in combinations(range(places), 2) if pair not in pairs]
+    pairs.update(rng.sample(rest, min(roads - len(pairs), len(rest))))
+    return places, [(a, b, rng.choice(list(lengths))) for a, b in sorted(pairs)]

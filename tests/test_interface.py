@@ -5,8 +5,12 @@ import inspect
 import os
 import unittest
 
-from evernear import errors, stands, texts, towns
+from evernear import errors, least, long, rows, safe, stands, texts, towns
 from evernear.errors import BadText
+from evernear.least import farthest, fewest_rooms, least_helpers, reach_steps
+from evernear.long import is_above, least_rate, worst_rate
+from evernear.rows import best_plan, least_cost, nearest_plan, plan_cost
+from evernear.safe import beating_row, best_answer, calling_rule, is_closed, ranks, safe_stands
 from evernear.stands import answers, move_length
 from evernear.texts import diary, read_calls, read_town, write_calls
 from evernear.towns import matters, way, within
@@ -37,6 +41,53 @@ SIGNATURES = {
         "read_calls": "(town, text)",
         "diary": "(town, stands, calls, *, rule, reach)",
     },
+    safe: {
+        "safe_stands": "(town, helpers, *, rule, reach, calls)",
+        "ranks": "(town, helpers, *, rule, reach, calls)",
+        "is_closed": "(town, stands, *, rule, reach, calls)",
+        "shows_safe": "(town, stand, stands, *, rule, reach, calls)",
+        "is_beating": "(town, rows, *, rule, reach, calls)",
+        "best_answer": "(town, stand, call, *, rule, reach, calls)",
+        "safe_rule": "(town, helpers, *, rule, reach, calls)",
+        "calling_rule": "(town, helpers, *, rule, reach, calls)",
+        "gone": "(town, stand, row, *, rule, reach, calls)",
+        "beating_row": "(town, stand, *, rule, reach, calls)",
+    },
+    least: {
+        "can_keep": "(town, helpers, calls, *, rule, reach)",
+        "least_helpers": "(town, calls, *, rule, reach)",
+        "least_reach": "(town, helpers, calls, *, rule)",
+        "reach_steps": "(town, calls, *, rule)",
+        "is_far": "(town, places, *, rule, reach)",
+        "farthest": "(town, calls, *, rule, reach)",
+        "are_rooms": "(town, calls, rooms, *, reach)",
+        "fewest_rooms": "(town, calls, *, reach)",
+        "pieces": "(town)",
+    },
+    rows: {
+        "plan_cost": "(town, start, calls, plan, *, rule, reach)",
+        "least_cost": "(town, start, calls, *, rule, reach)",
+        "best_plan": "(town, start, calls, *, rule, reach)",
+        "count_best": "(town, start, calls, *, rule, reach)",
+        "best_answers": "(town, start, calls, *, rule, reach)",
+        "nearest_plan": "(town, start, calls, *, rule, reach)",
+        "best_start": "(town, helpers, calls, *, rule, reach)",
+        "row_table": "(town, start, calls, *, rule, reach)",
+        "is_row_table": "(town, start, calls, table, *, rule, reach)",
+        "shows_plan": "(town, start, calls, plan, table, *, rule, reach)",
+        "shows_no_plan": "(town, start, calls, table, *, rule, reach)",
+    },
+    long: {
+        "least_rate": "(town, helpers, calls, *, rule)",
+        "rows_above": "(town, helpers, calls, *, rule)",
+        "rows_below": "(town, helpers, calls, *, rule)",
+        "is_above": "(town, helpers, calls, rate, rows, *, rule)",
+        "is_below": "(town, helpers, calls, rate, rows, *, rule)",
+        "best_answering": "(town, helpers, calls, *, rule)",
+        "best_calling": "(town, helpers, calls, *, rule)",
+        "worst_rate": "(town, answering, stand)",
+        "best_rate": "(town, calling, stand, *, rule)",
+    },
 }
 
 
@@ -66,6 +117,13 @@ class Interface(unittest.TestCase):
             (stands.can_answer, (town, (0,), 1, "one", 3)),
             (stands.is_answered, (town, [(0,)], [], "one", 3)),
             (texts.diary, (town, [(0,)], [], "one", 3)),
+            (safe.safe_stands, (town, 1, "one", 3, [0])),
+            (safe.best_answer, (town, (0,), 0, "one", 3, [0])),
+            (least.can_keep, (town, 1, [0], "one", 3)),
+            (least.fewest_rooms, (town, [0], 3)),
+            (rows.least_cost, (town, (0,), [], "one", 3)),
+            (long.least_rate, (town, 1, [0], "one")),
+            (long.best_rate, (town, [((0,), 0), ((1,), 0)], (0,), "one")),
         ]:
             with self.assertRaises(TypeError):
                 act(*args)
@@ -99,6 +157,45 @@ class Examples(unittest.TestCase):
         with self.assertRaises(BadText) as caught:
             read_town("places 4\nroad  1 2\n")
         self.assertEqual((caught.exception.line, caught.exception.column), (2, 6))
+
+    def test_safe(self):
+        town = (4, [(0, 1, 1), (1, 2, 1), (2, 3, 1)])
+        told = {"rule": "one", "reach": 1, "calls": [0, 1, 2, 3]}
+        self.assertEqual(safe_stands(town, 2, **told), [(0, 2), (0, 3), (1, 2), (1, 3)])
+        self.assertEqual(
+            ranks(town, 2, **told),
+            [((0, 0), 1), ((0, 1), 1), ((1, 1), 1), ((2, 2), 1), ((2, 3), 1), ((3, 3), 1)],
+        )
+        self.assertEqual(best_answer(town, (1, 2), 3, **told), ((1, 3), 1))
+        self.assertIs(is_closed(town, [(0, 2), (1, 3)], rule="one", reach=1, calls=[0, 3]), False)
+        path = (3, [(0, 1, 1), (1, 2, 1)])
+        told["calls"] = [0, 1, 2]
+        self.assertEqual(beating_row(path, (1,), **told), [0, 2])
+        self.assertEqual(calling_rule(path, 1, **told), [((0,), 1, 2), ((1,), 2, 0), ((2,), 1, 0)])
+
+    def test_least(self):
+        town, calls = self.TOWN, [0, 1, 2, 3]
+        self.assertEqual(least_helpers(town, calls, rule="one", reach=3), 2)
+        self.assertEqual(reach_steps(town, calls, rule="all"), [(0, None), (1, 3), (2, 2), (6, 1)])
+        self.assertEqual(farthest(town, calls, rule="one", reach=3), [0, 2])
+        self.assertEqual(farthest(town, calls, rule="all", reach=3), [0])
+        self.assertEqual(fewest_rooms(town, calls, reach=3), [[0, 1], [2, 3]])
+
+    def test_rows(self):
+        town, told = self.TOWN, {"rule": "one", "reach": 60}
+        self.assertEqual(least_cost(town, (0, 3), [1, 0, 1, 0], **told), 4)
+        self.assertEqual(best_plan(town, (0, 3), [1, 0, 1, 0], **told), [(0, 1), (0, 1), (0, 1), (0, 1)])
+        self.assertEqual(nearest_plan(town, (0, 3), [1, 0, 1, 0], **told), [(1, 3), (0, 3), (1, 3), (0, 3)])
+        self.assertIsNone(plan_cost(town, (0, 3), [1], [(0, 1)], rule="one", reach=3))
+
+    def test_long(self):
+        town = self.TOWN
+        rates = [least_rate(town, helpers, [0, 1, 3], rule="one") for helpers in (1, 2, 3)]
+        self.assertEqual(rates, [(6, 1), (2, 1), (0, 1)])
+        rows_of_leads = [((0,), (0, 1)), ((1,), (0, 1)), ((2,), (3, 1)), ((3,), (4, 1))]
+        self.assertIs(is_above(town, 1, [0, 1], (2, 1), rows_of_leads, rule="one"), True)
+        answering = [((0,), 0, (0,)), ((0,), 1, (1,)), ((1,), 0, (0,)), ((1,), 1, (1,))]
+        self.assertEqual(worst_rate((2, [(0, 1, 9)]), answering, (0,)), (9, 1))
 
     def test_the_readme(self):
         path = os.path.join(os.path.dirname(__file__), os.pardir, "README.md")

@@ -3,13 +3,28 @@
 import unittest
 from copy import deepcopy
 
-from evernear import stands, texts, towns
+from evernear import errors, least, long, rows, safe, stands, texts, towns
 from evernear.errors import NearError
-from tests.samples import LINE, TOWN
+from tests.samples import LINE, TOWN, TWO_PIECES
+from tests.test_interface import SIGNATURES
 
 ROW = [(0, 2), (1, 2), (0, 2)]
 BY_ONE = {"rule": "one", "reach": 3}
 BY_ALL = {"rule": "all", "reach": 3}
+
+CALLED = [0, 1, 3]
+START = (0, 2)
+SAFE_BY_ONE = {**BY_ONE, "calls": CALLED}
+SAFE_BY_ALL = {**BY_ALL, "calls": CALLED}
+# With this reach some stands are beaten.
+NEAR = {"rule": "one", "reach": 1, "calls": [0, 1, 2, 3]}
+TABLE = rows.row_table(TOWN, START, [1, 0, 3], **BY_ONE)
+NO_TABLE = rows.row_table(TOWN, (0, 0), [3], **BY_ONE)
+PLAN = rows.best_plan(TOWN, START, [1, 0, 3], **BY_ONE)
+ABOVE = long.rows_above(TOWN, 2, CALLED, rule="one")
+BELOW = long.rows_below(TOWN, 2, CALLED, rule="all")
+ANSWERING = long.best_answering(TOWN, 2, CALLED, rule="all")
+CALLING = long.best_calling(TOWN, 2, CALLED, rule="one")
 
 CALLS_OF_FUNCTIONS = [
     (towns.check_town, [TOWN], {}),
@@ -37,6 +52,54 @@ CALLS_OF_FUNCTIONS = [
     (texts.read_calls, [TOWN, "calls 1 0\n"], {}),
     (texts.diary, [TOWN, ROW, [1, 0]], BY_ONE),
     (texts.diary, [TOWN, ROW, [1, 0]], BY_ALL),
+    (safe.safe_stands, [LINE, 2], NEAR),
+    (safe.safe_stands, [TOWN, 2], SAFE_BY_ALL),
+    (safe.ranks, [LINE, 2], NEAR),
+    (safe.is_closed, [LINE, [(0, 3), (1, 3), (0, 2), (1, 2), (0, 2)]], NEAR),
+    (safe.shows_safe, [LINE, (0, 2), [(0, 3), (1, 3), (0, 2), (1, 2)]], NEAR),
+    (safe.is_beating, [LINE, [((2, 3), 1, 0), ((0, 1), 1, 3)]], NEAR),
+    (safe.best_answer, [LINE, (0, 2), 3], NEAR),
+    (safe.best_answer, [TOWN, (0, 2), 3], SAFE_BY_ALL),
+    (safe.safe_rule, [LINE, 2], NEAR),
+    (safe.calling_rule, [LINE, 2], NEAR),
+    (safe.gone, [LINE, (0, 2), [3, 1, 0, 0]], NEAR),
+    (safe.beating_row, [LINE, (0, 1)], NEAR),
+    (safe.beating_row, [TOWN, (0, 2)], SAFE_BY_ONE),
+    (least.can_keep, [TOWN, 2, CALLED], BY_ONE),
+    (least.least_helpers, [TOWN, CALLED], BY_ALL),
+    (least.least_reach, [TOWN, 2, CALLED], {"rule": "one"}),
+    (least.reach_steps, [TOWN, CALLED], {"rule": "all"}),
+    (least.is_far, [TOWN, [0, 3]], BY_ONE),
+    (least.farthest, [TOWN, CALLED], BY_ONE),
+    (least.farthest, [TOWN, CALLED], BY_ALL),
+    (least.are_rooms, [TOWN, CALLED, [[0, 1], [3]]], {"reach": 3}),
+    (least.are_rooms, [TOWN, CALLED, [[3], [1, 0]]], {"reach": 3}),
+    (least.fewest_rooms, [TOWN, CALLED], {"reach": 3}),
+    (least.pieces, [TWO_PIECES], {}),
+    (rows.plan_cost, [TOWN, START, [1, 0, 3], PLAN], BY_ONE),
+    (rows.least_cost, [TOWN, START, [1, 0, 3]], BY_ONE),
+    (rows.best_plan, [TOWN, START, [1, 0, 3]], BY_ONE),
+    (rows.best_plan, [TOWN, START, []], BY_ALL),
+    (rows.count_best, [TOWN, START, [1, 0, 3]], BY_ALL),
+    (rows.best_answers, [TOWN, START, [1, 0, 3]], BY_ALL),
+    (rows.best_answers, [TOWN, START, []], BY_ALL),
+    (rows.nearest_plan, [TOWN, START, [1, 0, 3]], BY_ONE),
+    (rows.best_start, [TOWN, 2, [1, 0, 3]], BY_ALL),
+    (rows.row_table, [TOWN, START, [1, 0, 3]], BY_ALL),
+    (rows.is_row_table, [TOWN, START, [1, 0, 3], TABLE], BY_ONE),
+    (rows.is_row_table, [TOWN, START, [1, 0, 3], TABLE[::-1]], BY_ONE),
+    (rows.shows_plan, [TOWN, START, [1, 0, 3], PLAN, TABLE], BY_ONE),
+    (rows.shows_no_plan, [TOWN, (0, 0), [3], NO_TABLE], BY_ONE),
+    (long.least_rate, [TOWN, 2, CALLED], {"rule": "one"}),
+    (long.rows_above, [TOWN, 2, CALLED], {"rule": "all"}),
+    (long.rows_below, [TOWN, 2, CALLED], {"rule": "one"}),
+    (long.is_above, [TOWN, 2, CALLED, (2, 1), ABOVE], {"rule": "one"}),
+    (long.is_below, [TOWN, 2, CALLED, (2, 1), BELOW], {"rule": "all"}),
+    (long.is_below, [TOWN, 2, CALLED, (2, 1), BELOW[::-1]], {"rule": "all"}),
+    (long.best_answering, [TOWN, 2, CALLED], {"rule": "one"}),
+    (long.best_calling, [TOWN, 2, CALLED], {"rule": "all"}),
+    (long.worst_rate, [TOWN, ANSWERING, START], {}),
+    (long.best_rate, [TOWN, CALLING, START], {"rule": "all"}),
 ]
 
 
@@ -75,6 +138,12 @@ class Unchanged(unittest.TestCase):
             spoil(first)
             self.assertEqual(repr((args, more)), kept, act.__name__)
             self.assertEqual(told(act, args, more), expected, act.__name__)
+
+    def test_each_function_of_the_interface_is_called(self):
+        called = {act for act, _, _ in CALLS_OF_FUNCTIONS}
+        self.assertEqual(called, {
+            getattr(module, name) for module, listed in SIGNATURES.items() if module is not errors for name in listed
+        })
 
     def test_no_list_is_returned_twice_in_one_value(self):
         table = towns.ways(TOWN)

@@ -2,6 +2,7 @@
 
 from itertools import combinations
 
+from evernear.lists import ascends
 from evernear.safe import safe_stands
 from evernear.towns import in_reach, ways
 
@@ -62,7 +63,7 @@ def farthest(town, calls, *, rule, reach):
 
 def are_rooms(town, calls, rooms, *, reach):
     """Tell whether the list of lists of places are rooms of the calls and of the reach."""
-    if not all(_ascends(room) for room in rooms) or not _ascends(rooms) or [] in rooms:
+    if not all(ascends(room) for room in rooms) or not ascends(rooms) or [] in rooms:
         return False
     if sorted([place for room in rooms for place in room]) != calls:
         return False
@@ -95,10 +96,6 @@ def _fewest_with(least, reach):
         if in_reach(start, reach):
             return at + 1
     return None
-
-
-def _ascends(rows):
-    return all(rows[at] < rows[at + 1] for at in range(len(rows) - 1))
 
 
 def _ways_between(table, places):

@@ -1,5 +1,6 @@
 """Rows of calls: plans that answer them, the least cost, and tables that show it."""
 
+from evernear.lists import ascends
 from evernear.stands import answer_lengths, answer_table, answers_by
 from evernear.towns import ways
 
@@ -86,7 +87,7 @@ def is_row_table(town, start, calls, table, *, rule, reach):
     """Tell whether the table is right."""
     bounds = _bounds(table)
     # The same place and stand twice do not ascend, so each row of the table is in the dict.
-    if not _ascend([row[:2] for row in table]) or (0, start) not in bounds:
+    if not ascends([row[:2] for row in table]) or (0, start) not in bounds:
         return False
     replies = _replies(town, len(start), calls, rule, reach)
     for at, stand, bound in table:
@@ -134,10 +135,6 @@ def _best_next(found, behind):
     """Return those of the answers by which the least cost comes."""
     least = min(_costs(found, behind), default=None)
     return [answer for answer, length in found if behind[answer] is not None and length + behind[answer] == least]
-
-
-def _ascend(rows):
-    return all(rows[at] < rows[at + 1] for at in range(len(rows) - 1))
 
 
 def _is_below_nought(bound):

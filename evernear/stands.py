@@ -74,12 +74,13 @@ def moves_from(table, stand, reach):
 
 def _with_one_more(steps, moves, reach):
     """Return the moves with one helper more, who has these ways to all places."""
+    near = [(place, step) for place, step in enumerate(steps) if in_reach(step, reach)]
     found = {}
     for stand, length in moves.items():
-        for place, step in enumerate(steps):
-            if in_reach(step, reach):
-                other = tuple(sorted((*stand, place)))
-                found[other] = min(length + step, found.get(other, length + step))
+        for place, step in near:
+            other = tuple(sorted((*stand, place)))
+            if other not in found or length + step < found[other]:
+                found[other] = length + step
     return found
 
 

@@ -86,10 +86,13 @@ def plain_replies(town, helpers, rule, reach):
     key = repr((town, helpers, rule, reach))
     if key not in REPLIES:
         between = plain_ways(town)
-        REPLIES[key] = {
-            (stand, call): plain_answers(town, between, stand, call, rule, reach)
-            for stand in plain_stands(town, helpers) for call in range(town[0])
-        }
+        REPLIES[key] = {}
+        for stand in plain_stands(town, helpers):
+            moves = {other: plain_move(between, stand, other, reach) for other in plain_stands(town, helpers)}
+            for call in range(town[0]):
+                REPLIES[key][stand, call] = plain_answers(town, between, stand, call, rule, reach) if rule == "one" else [
+                    (other, length) for other, length in moves.items() if call in other and length is not None
+                ]
     return REPLIES[key]
 
 

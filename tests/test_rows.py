@@ -168,6 +168,18 @@ class Best(unittest.TestCase):
         self.assertEqual(count_best(town, (1, 2), calls, **told), many[1, 2])
         self.assertGreater(many[1, 2], 10 ** 7)
 
+    def test_plans_that_come_to_the_same_stand_by_other_ways(self):
+        # By the rule "all" two moves within the reach may be shorter than one, but the calls do not give the time.
+        town = (4, [(0, 2, 3), (0, 3, 2), (1, 2, 3), (1, 3, 2)])
+        for told, calls in product([{"rule": "all", "reach": 3}, {"rule": "all", "reach": 2}], product(range(4), repeat=3)):
+            for start in plain_stands(town, 2):
+                plans = plain_plans(town, start, list(calls), told)
+                least = min((cost for _, cost in plans), default=None)
+                best = [plan for plan, cost in plans if cost == least]
+                self.assertEqual(count_best(town, start, list(calls), **told), len(best))
+                self.assertEqual(best_plan(town, start, list(calls), **told), min(best, default=None))
+                self.assertEqual(best_answers(town, start, list(calls), **told), sorted({plan[0] for plan in best}))
+
     def test_best_start(self):
         for town, rule, reach, calls in product(TOWNS, RULES, (0, 1, 3, 60), ROWS):
             told = {"rule": rule, "reach": reach}
@@ -294,6 +306,8 @@ class Tables(unittest.TestCase):
             ahead, behind = table[:at], table[at + 1:]
             yield ahead + behind
             yield [*ahead, table[at], table[at], *behind]
+            yield [*ahead, table[at], (place, stand, (bound or 0) + 1), *behind]
+            yield [*ahead, (place, stand, 0), table[at], *behind]
             yield [*ahead, *behind[:1], table[at], *behind[1:]]
             for other in [None, 0, 1, -1] + ([bound + 1, bound - 1] if bound is not None else [50]):
                 yield [*ahead, (place, stand, other), *behind]

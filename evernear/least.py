@@ -4,9 +4,8 @@ from itertools import combinations
 
 from evernear.lists import ascends
 from evernear.safe import safe_stands
+from evernear.stands import MOST_HELPERS
 from evernear.towns import in_reach, ways
-
-MOST_HELPERS = 3
 
 
 def can_keep(town, helpers, calls, *, rule, reach):

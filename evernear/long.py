@@ -1,10 +1,9 @@
 """Calls without end: the least rate, leads that bound it, and answerings and callings that reach it."""
 
+from evernear.lists import come_to
 from evernear.ratios import is_less, lowest, plus
-from evernear.stands import answer_table, answers_by, moves_from, stands_of
+from evernear.stands import NO_REACH, answer_table, answers_by, moves_from, stands_of
 from evernear.towns import ways
-
-NO_REACH = 60
 
 
 def least_rate(town, helpers, calls, *, rule):
@@ -170,7 +169,7 @@ def _greatest_rate(steps, start):
 
     By the theorem of Karp: with as many steps as there are stands, each greatest sum has gone through some round. From
     the greatest sum of less steps to the same stand it rises by some rate, and the least of these counts for it."""
-    many = _count_reached(steps, start)
+    many = len(come_to(steps, start))
     sums = [{start: 0}]
     for _ in range(many):
         sums.append(_with_one_step_more(steps, sums[-1]))
@@ -179,19 +178,6 @@ def _greatest_rate(steps, start):
     for rate in rates:
         best = rate if is_less(best, rate) else best
     return lowest(best[0], best[1])
-
-
-def _count_reached(steps, start):
-    """Return how many stands can be come to, with the start."""
-    reached = {start: True}
-    fresh = [start]
-    while fresh:
-        stand = fresh.pop()
-        for answer, length in steps[stand]:
-            if answer not in reached:
-                reached[answer] = True
-                fresh.append(answer)
-    return len(reached)
 
 
 def _with_one_step_more(steps, sums):

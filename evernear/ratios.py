@@ -1,6 +1,6 @@
 """Fractions as tuples (n, d), d at least 1."""
 
-from math import gcd
+from math import gcd, lcm
 
 
 def lowest(over, under):
@@ -17,3 +17,11 @@ def is_less(first, second):
 def plus(first, second):
     """Return the sum of two fractions."""
     return lowest(first[0] * second[1] + second[0] * first[1], first[1] * second[1])
+
+
+def shared_divisor(fractions):
+    """Return the least number that all of these fractions can be written over."""
+    shared = 1
+    for _, under in fractions:
+        shared = lcm(shared, under)
+    return shared

@@ -1,5 +1,6 @@
 """Safe stands, from which helpers can answer for ever, and how a caller beats all others."""
 
+from evernear.closed import beaten_ranks, is_closed_table
 from evernear.stands import answer_table, answers_by, answers_to_each
 from evernear.towns import ways
 
@@ -20,11 +21,9 @@ def is_closed(town, stands, *, rule, reach, calls):
     """Tell whether each stand has an answer in the list to each call."""
     table = ways(town)
     listed = {stand: True for stand in stands}
-    for stand in listed:
-        for found in answers_to_each(table, stand, calls, rule, reach).values():
-            if not any(answer in listed for answer, length in found):
-                return False
-    return True
+    return is_closed_table(_without_lengths({
+        stand: answers_to_each(table, stand, calls, rule, reach) for stand in listed
+    }))
 
 
 def shows_safe(town, stand, stands, *, rule, reach, calls):
@@ -49,7 +48,7 @@ def is_beating(town, rows, *, rule, reach, calls):
 def best_answer(town, stand, call, *, rule, reach, calls):
     """Return the tuple (stand, length) of the best answer to the call, or None."""
     table = answer_table(town, len(stand), calls, rule, reach)
-    return _best(table[stand][call], _beaten(table))
+    return best_of(table[stand][call], _beaten(table))
 
 
 def safe_rule(town, helpers, *, rule, reach, calls):
@@ -57,7 +56,7 @@ def safe_rule(town, helpers, *, rule, reach, calls):
     table = answer_table(town, helpers, calls, rule, reach)
     beaten = _beaten(table)
     safe = [stand for stand in table if stand not in beaten]
-    return [(stand, call, _best(table[stand][call], beaten)[0]) for stand in safe for call in calls]
+    return [(stand, call, best_of(table[stand][call], beaten)[0]) for stand in safe for call in calls]
 
 
 def calling_rule(town, helpers, *, rule, reach, calls):
@@ -73,7 +72,7 @@ def gone(town, stand, row, *, rule, reach, calls):
     beaten = _beaten(table)
     stands = [stand]
     for call in row:
-        best = _best(table[stands[-1]][call], beaten)
+        best = best_of(table[stands[-1]][call], beaten)
         if best is None:
             break
         stands.append(best[0])
@@ -87,36 +86,32 @@ def beating_row(town, stand, *, rule, reach, calls):
     if stand not in beaten:
         return None
     row = [_beating_call(table, stand, beaten)]
-    best = _best(table[stand][row[-1]], beaten)
+    best = best_of(table[stand][row[-1]], beaten)
     while best is not None:
         row.append(_beating_call(table, best[0], beaten))
-        best = _best(table[best[0]][row[-1]], beaten)
+        best = best_of(table[best[0]][row[-1]], beaten)
     return row
+
+
+def best_of(found, beaten):
+    """Return the best one of these answers, which ascend, or None."""
+    kept = [reply for reply in found if reply[0] not in beaten]
+    if found and not kept:
+        highest = max([beaten[answer] for answer, length in found])
+        kept = [reply for reply in found if beaten[reply[0]] == highest]
+    # Of several that are as short, min takes the first one.
+    return min(kept, key=lambda reply: reply[1], default=None)
 
 
 def _beaten(table):
     """Return a dict with the rank of each beaten stand of a table of answers."""
-    beaten = {}
-    rank = 1
-    fresh = _lost_by_one_call(table, beaten)
-    while fresh:
-        for stand in fresh:
-            beaten[stand] = rank
-        rank = rank + 1
-        fresh = _lost_by_one_call(table, beaten)
-    return beaten
+    return beaten_ranks(_without_lengths(table))
 
 
-def _lost_by_one_call(table, beaten):
-    """Return the stands not yet beaten that have a call to which all answers are."""
-    return [stand for stand in table if stand not in beaten and _is_lost(table[stand], beaten)]
-
-
-def _is_lost(replies, beaten):
-    for found in replies.values():
-        if all(answer in beaten for answer, length in found):
-            return True
-    return False
+def _without_lengths(table):
+    return {
+        stand: [[answer for answer, length in found] for found in replies.values()] for stand, replies in table.items()
+    }
 
 
 def _all_below(found, ranked, rank):
@@ -129,13 +124,3 @@ def _beating_call(table, stand, beaten):
     replies = table[stand]
     lost = [call for call in replies if _all_below(replies[call], beaten, beaten[stand])]
     return lost[0]
-
-
-def _best(found, beaten):
-    """Return the best one of these answers, which ascend, or None."""
-    kept = [reply for reply in found if reply[0] not in beaten]
-    if found and not kept:
-        highest = max([beaten[answer] for answer, length in found])
-        kept = [reply for reply in found if beaten[reply[0]] == highest]
-    # Of several that are as short, min takes the first one.
-    return min(kept, key=lambda reply: reply[1], default=None)

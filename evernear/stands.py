@@ -1,6 +1,10 @@
 """Stands of helpers, the moves between them, and their answers to calls."""
 
-from evernear.towns import in_reach, ways
+from evernear.towns import in_reach, is_place, ways
+
+MOST_HELPERS = 3
+# No way of a town is longer.
+NO_REACH = 60
 
 
 def stands_of(town, helpers):
@@ -31,6 +35,13 @@ def is_answered(town, stands, calls, *, rule, reach):
     if len(stands) != len(calls) + 1:
         return False
     return None not in answer_lengths(town, stands, calls, rule, reach)
+
+
+def is_stand(town, value):
+    """Tell whether a value of any kind is a stand of the town."""
+    if not isinstance(value, tuple) or not 1 <= len(value) <= MOST_HELPERS:
+        return False
+    return all(is_place(town, place) for place in value) and sorted(value) == list(value)
 
 
 def answer_lengths(town, stands, calls, rule, reach):

@@ -11,6 +11,11 @@ def is_whole(value):
     return isinstance(value, int) and not isinstance(value, bool)
 
 
+def is_place(town, value):
+    """Tell whether a value of any kind is a place of the town."""
+    return is_whole(value) and 0 <= value < town[0]
+
+
 def in_reach(length, reach):
     """Tell whether a way, None if there is none, is at most the reach."""
     return length is not None and length <= reach

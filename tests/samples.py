@@ -88,16 +88,30 @@ def plain_replies(town, helpers, rule, reach):
         between = plain_ways(town)
         REPLIES[key] = {}
         for stand in plain_stands(town, helpers):
-            moves = {other: plain_move(between, stand, other, reach) for other in plain_stands(town, helpers)}
-            for call in range(town[0]):
-                REPLIES[key][stand, call] = plain_answers(town, between, stand, call, rule, reach) if rule == "one" else [
-                    (other, length) for other, length in moves.items() if call in other and length is not None
-                ]
+            if rule == "one":
+                found = {call: plain_answers(town, between, stand, call, rule, reach) for call in range(town[0])}
+            else:
+                moves = [(other, plain_move(between, stand, other, reach)) for other in plain_stands(town, helpers)]
+                found = {
+                    call: [(other, length) for other, length in moves if call in other and length is not None]
+                    for call in range(town[0])
+                }
+            REPLIES[key].update({(stand, call): replies for call, replies in found.items()})
     return REPLIES[key]
+
+
+RANKS = {}
 
 
 def plain_ranks(town, helpers, rule, reach, calls):
     """For each stand the least number of calls that it cannot answer whatever they are, None if there is none."""
+    key = repr((town, helpers, rule, reach, calls))
+    if key not in RANKS:
+        RANKS[key] = ranks_worked_out(town, helpers, rule, reach, calls)
+    return dict(RANKS[key])
+
+
+def ranks_worked_out(town, helpers, rule, reach, calls):
     replies = plain_replies(town, helpers, rule, reach)
     found = {stand: None for stand in plain_stands(town, helpers)}
     able = set(found)

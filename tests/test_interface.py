@@ -5,10 +5,14 @@ import inspect
 import os
 import unittest
 
-from evernear import errors, least, long, rows, safe, stands, texts, towns
+from evernear import busy, chances, errors, house, least, long, roads, rows, safe, stands, texts, towns
+from evernear.busy import busy_answers, can_keep_busy, most_rest
+from evernear.chances import answered_chance, is_below, least_mean, mean_total
 from evernear.errors import BadText
+from evernear.house import House
 from evernear.least import farthest, fewest_rooms, least_helpers, reach_steps
 from evernear.long import is_above, least_rate, worst_rate
+from evernear.roads import helpers_without, needed_roads, thinned
 from evernear.rows import best_plan, least_cost, nearest_plan, plan_cost
 from evernear.safe import beating_row, best_answer, calling_rule, is_closed, ranks, safe_stands
 from evernear.stands import answers, move_length
@@ -88,7 +92,57 @@ SIGNATURES = {
         "worst_rate": "(town, answering, stand)",
         "best_rate": "(town, calling, stand, *, rule)",
     },
+    chances: {
+        "check_chances": "(town, chances)",
+        "answered_chance": "(town, stand, chances, *, rule, reach, many)",
+        "chance_table": "(town, helpers, chances, *, rule, reach, many)",
+        "mean_total": "(town, stand, chances, *, many)",
+        "side_of": "(town, stand, chances, rows)",
+        "is_above": "(town, helpers, chances, paper)",
+        "is_below": "(town, helpers, chances, paper)",
+        "least_mean": "(town, helpers, chances)",
+        "mean_paper": "(town, helpers, chances)",
+    },
+    busy: {
+        "rested": "(stand)",
+        "busy_answers": "(town, state, call, *, reach, rest)",
+        "safe_states": "(town, helpers, calls, *, reach, rest)",
+        "is_closed_busy": "(town, states, calls, *, reach, rest)",
+        "safe_when_rested": "(town, helpers, calls, *, reach, rest)",
+        "can_keep_busy": "(town, helpers, calls, *, reach, rest)",
+        "most_rest": "(town, helpers, calls, *, reach)",
+    },
+    roads: {
+        "lost_stands": "(town, at, helpers, calls, *, rule, reach)",
+        "needed_roads": "(town, helpers, calls, *, rule, reach)",
+        "helpers_without": "(town, calls, *, rule, reach)",
+        "thinned": "(town, helpers, calls, *, rule, reach)",
+        "helping_roads": "(town, helpers, calls, *, rule, reach, length)",
+    },
+    house: {
+        "House": "(town, stand, *, rule, reach)",
+        "replay": "(town, stand, journal, *, rule, reach)",
+    },
 }
+
+METHODS_OF_HOUSE = {
+    "call": "(self, place)",
+    "answer": "(self, place, stand)",
+    "shut": "(self, first, second)",
+    "build": "(self, road)",
+    "undo": "(self)",
+    "redo": "(self)",
+    "do_all": "(self, deeds)",
+    "what_if": "(self, deeds)",
+    "town": "(self)",
+    "stand": "(self)",
+    "calls": "(self)",
+    "way": "(self)",
+    "rank": "(self)",
+    "journal": "(self)",
+    "__len__": "(self)",
+}
+PROPERTIES_OF_HOUSE = ["is_safe", "can_undo", "can_redo"]
 
 
 class Interface(unittest.TestCase):
@@ -102,11 +156,29 @@ class Interface(unittest.TestCase):
             for name in listed:
                 self.assertEqual(getattr(module, name).__module__, module.__name__, name)
 
+    def test_methods_and_properties_stand_in_the_class_itself(self):
+        own = vars(House)
+        self.assertEqual(House.__bases__, (object,))
+        for name, signature in METHODS_OF_HOUSE.items():
+            self.assertTrue(inspect.isfunction(own[name]), name)
+            self.assertEqual(str(inspect.signature(own[name])), signature, name)
+        for name in PROPERTIES_OF_HOUSE:
+            self.assertIsInstance(own[name], property, name)
+            with self.assertRaises(AttributeError):
+                setattr(House((1, []), (0,), rule="one", reach=0), name, True)
+
     def test_arguments_can_be_told_by_their_names(self):
         town = (2, [(0, 1, 3)])
         self.assertEqual(towns.way(second=1, first=0, town=town), 3)
         self.assertEqual(stands.answers(reach=3, rule="one", call=1, stand=(0,), town=town), [((1,), 3)])
         self.assertEqual(texts.read_calls(text="calls 1\n", town=town), [1])
+        self.assertEqual(busy.busy_answers(rest=1, reach=3, call=1, state=((0, 0),), town=town), [((1, 1),)])
+        self.assertEqual(chances.least_mean(chances=[(1, 2), (1, 2)], helpers=1, town=town), (3, 2))
+        made = house.replay(reach=3, rule="one", journal=[("call", 1)], stand=(0,), town=town)
+        self.assertEqual(made.answer(stand=(0,), place=0), 3)
+        self.assertEqual((made.shut(second=0, first=1), made.build(road=(0, 1, 3))), (False, True))
+        self.assertIsNone(made.do_all(deeds=[("undo",)]))
+        self.assertEqual(made.what_if(deeds=[("redo",)]), (0,))
 
     def test_arguments_behind_the_star_are_told_by_their_names_alone(self):
         town = (2, [(0, 1, 3)])
@@ -124,6 +196,14 @@ class Interface(unittest.TestCase):
             (rows.least_cost, (town, (0,), [], "one", 3)),
             (long.least_rate, (town, 1, [0], "one")),
             (long.best_rate, (town, [((0,), 0), ((1,), 0)], (0,), "one")),
+            (chances.chance_table, (town, 1, [(1, 2), (1, 2)], "one", 3, 1)),
+            (chances.mean_total, (town, (0,), [(1, 2), (1, 2)], 1)),
+            (busy.busy_answers, (town, ((0, 0),), 1, 3, 1)),
+            (busy.most_rest, (town, 1, [0], 3)),
+            (roads.needed_roads, (town, 1, [0], "one", 3)),
+            (roads.helping_roads, (town, 1, [0], "one", 3, 1)),
+            (house.House, (town, (0,), "one", 3)),
+            (house.replay, (town, (0,), [], "one", 3)),
         ]:
             with self.assertRaises(TypeError):
                 act(*args)
@@ -196,6 +276,37 @@ class Examples(unittest.TestCase):
         self.assertIs(is_above(town, 1, [0, 1], (2, 1), rows_of_leads, rule="one"), True)
         answering = [((0,), 0, (0,)), ((0,), 1, (1,)), ((1,), 0, (0,)), ((1,), 1, (1,))]
         self.assertEqual(worst_rate((2, [(0, 1, 9)]), answering, (0,)), (9, 1))
+
+    def test_chances(self):
+        town, told = (3, [(0, 1, 1), (1, 2, 1)]), [(1, 4), (1, 2), (1, 4)]
+        self.assertEqual(answered_chance(town, (1,), told, rule="one", reach=1, many=2), (7, 8))
+        self.assertEqual((mean_total(town, (1,), told, many=2), least_mean(town, 1, told)), ((5, 4), (3, 4)))
+        paper = ((3, 4), [((0,), (1, 2)), ((1,), (0, 1)), ((2,), (1, 2))])
+        self.assertIs(chances.is_above(town, 1, told, paper), True)
+        self.assertIs(is_below(town, 1, told, ((1, 2), paper[1])), True)
+
+    def test_busy(self):
+        town, calls = self.TOWN, [0, 1, 2, 3]
+        self.assertEqual(busy_answers(town, ((0, 0), (2, 1)), 1, reach=3, rest=2), [((1, 2), (2, 0))])
+        self.assertIs(can_keep_busy(town, 2, calls, reach=3, rest=0), True)
+        self.assertEqual(most_rest(town, 2, calls, reach=3), 0)
+
+    def test_roads(self):
+        town, calls, told = self.TOWN, [0, 1, 2, 3], {"rule": "one", "reach": 3}
+        self.assertEqual(needed_roads(town, 2, calls, **told), [0, 3])
+        self.assertEqual(helpers_without(town, calls, **told), [3, 2, 2, 3])
+        self.assertEqual(thinned(town, 2, calls, **told), (4, [(0, 1, 2), (2, 3, 1)]))
+
+    def test_house(self):
+        made = House((4, [(0, 1, 1), (1, 2, 1), (2, 3, 1)]), (0, 2), rule="one", reach=1)
+        self.assertEqual(
+            (made.is_safe, made.call(3), made.call(2), made.answer(3, (0, 3)), made.way()),
+            (True, ((0, 3), 1), ((0, 2), 1), 1, 3),
+        )
+        self.assertEqual(
+            (made.call(1), made.stand(), made.shut(3, 2), made.rank(), made.build((0, 2, 1))),
+            (((1, 3), 1), (1, 3), False, 2, True),
+        )
 
     def test_the_readme(self):
         path = os.path.join(os.path.dirname(__file__), os.pardir, "README.md")

@@ -3,7 +3,7 @@
 import unittest
 from copy import deepcopy
 
-from evernear import errors, least, long, rows, safe, stands, texts, towns
+from evernear import busy, chances, errors, house, least, long, roads, rows, safe, stands, texts, towns
 from evernear.errors import NearError
 from tests.samples import LINE, TOWN, TWO_PIECES
 from tests.test_interface import SIGNATURES
@@ -25,6 +25,30 @@ ABOVE = long.rows_above(TOWN, 2, CALLED, rule="one")
 BELOW = long.rows_below(TOWN, 2, CALLED, rule="all")
 ANSWERING = long.best_answering(TOWN, 2, CALLED, rule="all")
 CALLING = long.best_calling(TOWN, 2, CALLED, rule="one")
+
+EVEN = [(1, 4), (1, 4), (0, 1), (1, 2)]
+FEW = {"rule": "one", "reach": 3, "many": 3}
+PAPER = chances.mean_paper(TOWN, 2, EVEN)
+BUSY = {"reach": 60, "rest": 1}
+STATES = busy.safe_states(TOWN, 2, CALLED, **BUSY)
+JOURNAL = [("call", 1), ("shut", 0, 1), ("undo",), ("build", (0, 3, 1)), ("answer", 3, (1, 3))]
+
+
+def house_told(town, stand, deeds, *, rule, reach):
+    """All that a house shows behind a list of deeds."""
+    made = house.House(town, stand, rule=rule, reach=reach)
+    found = (made.what_if(deeds), made.town(), made.journal())
+    made.do_all(deeds)
+    return (found, made.town(), made.stand(), made.calls(), made.way(), made.rank(), made.journal())
+
+
+def replay_told(town, stand, journal, *, rule, reach):
+    made = house.replay(town, stand, journal, rule=rule, reach=reach)
+    return (made.town(), made.stand(), made.calls(), made.way(), made.rank(), made.journal())
+
+
+# A house is no value that can be compared, so what it shows is looked at in its place.
+SHOWN_BY = {house.House: house_told, house.replay: replay_told}
 
 CALLS_OF_FUNCTIONS = [
     (towns.check_town, [TOWN], {}),
@@ -100,13 +124,45 @@ CALLS_OF_FUNCTIONS = [
     (long.best_calling, [TOWN, 2, CALLED], {"rule": "all"}),
     (long.worst_rate, [TOWN, ANSWERING, START], {}),
     (long.best_rate, [TOWN, CALLING, START], {"rule": "all"}),
+    (chances.check_chances, [TOWN, EVEN], {}),
+    (chances.check_chances, [TOWN, [(1, 2), (1, 2), (0, 2), (0, 1)]], {}),
+    (chances.answered_chance, [TOWN, START, EVEN], FEW),
+    (chances.chance_table, [TOWN, 2, EVEN], FEW),
+    (chances.mean_total, [TOWN, START, EVEN], {"many": 3}),
+    (chances.side_of, [TOWN, START, EVEN, PAPER[1]], {}),
+    (chances.is_above, [TOWN, 2, EVEN, PAPER], {}),
+    (chances.is_above, [TOWN, 2, EVEN, (PAPER[0], PAPER[1][::-1])], {}),
+    (chances.is_below, [TOWN, 2, EVEN, PAPER], {}),
+    (chances.is_below, [TOWN, 2, EVEN, (PAPER[0], PAPER[1][::-1])], {}),
+    (chances.least_mean, [TOWN, 2, EVEN], {}),
+    (chances.mean_paper, [TOWN, 2, EVEN], {}),
+    (chances.mean_paper, [TOWN, 1, EVEN], {}),
+    (busy.rested, [START], {}),
+    (busy.busy_answers, [TOWN, ((0, 0), (2, 1)), 1], BUSY),
+    (busy.busy_answers, [TOWN, ((0, 0), (2, 1)), 2], BUSY),
+    (busy.safe_states, [TOWN, 3, CALLED], BUSY),
+    (busy.is_closed_busy, [TOWN, STATES[::-1], CALLED], BUSY),
+    (busy.is_closed_busy, [TOWN, STATES[:1], CALLED], BUSY),
+    (busy.safe_when_rested, [TOWN, 3, CALLED], BUSY),
+    (busy.can_keep_busy, [TOWN, 3, CALLED], BUSY),
+    (busy.most_rest, [TOWN, 3, CALLED], {"reach": 60}),
+    (roads.lost_stands, [TOWN, 0, 2, CALLED], BY_ONE),
+    (roads.needed_roads, [TOWN, 2, CALLED], BY_ONE),
+    (roads.helpers_without, [TOWN, CALLED], BY_ALL),
+    (roads.thinned, [TOWN, 2, CALLED], BY_ONE),
+    (roads.thinned, [LINE, 1, CALLED], BY_ONE),
+    (roads.helping_roads, [TOWN, 1, CALLED], {**BY_ONE, "length": 1}),
+    (roads.helping_roads, [TOWN, 2, CALLED], {**BY_ONE, "length": 1}),
+    (house.House, [TOWN, START, JOURNAL], BY_ALL),
+    (house.replay, [TOWN, START, JOURNAL], BY_ALL),
+    (house.replay, [TOWN, START, [("call", 1), ("call", 9)]], BY_ALL),
 ]
 
 
 def told(act, args, more):
     """What a call returns, or the class and the fields of what it raises."""
     try:
-        return act(*args, **more)
+        return SHOWN_BY.get(act, act)(*args, **more)
     except NearError as error:
         return (error.__class__.__name__, vars(error))
 
